@@ -5,6 +5,7 @@ import (
 	"math"
 	"math/bits"
 	"reflect"
+	"runtime"
 	"slices"
 	"sort"
 	"strings"
@@ -1022,6 +1023,10 @@ func TestListsApart(t *testing.T) {
 					t.Fatalf("%s, %s of %q: memory is shared", tell(c), call, k)
 				}
 			}
+			// Memory that nobody has any more may be another one's.
+			runtime.KeepAlive(n)
+			runtime.KeepAlive(key)
+			runtime.KeepAlive(l)
 		}
 	}
 }
